@@ -1,0 +1,77 @@
+"""Wishes: which letters may stand side by side, given and said."""
+
+from nearwish.checks import are_letters
+from nearwish.errors import NoWish
+
+GIVEN_LETTERS = "abcdefghijklmnopqrstuvwxyz"
+SAID_LETTERS = "ABCDEFGHIJKLMNOPQRSTUVWXYZ"
+MOST_GIVEN = 3
+MOST_SAID = 4
+
+
+def _are_different(value, letters, most):
+    """Whether it is a string of 1 to `most` different ones of these letters."""
+    if not are_letters(value, letters):
+        return False
+    return 1 <= len(value) <= most and len(set(value)) == len(value)
+
+
+def _is_pair(value, given, said):
+    """Whether it is a string of two cells."""
+    if not isinstance(value, str) or len(value) != 4:
+        return False
+    return are_letters(value[::2], given) and are_letters(value[1::2], said)
+
+
+def _are_pairs(value, given, said):
+    """Whether it is a list of strings of two cells, none of them twice."""
+    if not isinstance(value, list):
+        return False
+    seen = set()
+    for pair in value:
+        if not _is_pair(pair, given, said) or pair in seen:
+            return False
+        seen.add(pair)
+    return True
+
+
+class Wish:
+    """A wish: its given letters, its said letters, its pairs. It does not change."""
+
+    def __init__(self, given, said, pairs):
+        if not _are_different(given, GIVEN_LETTERS, MOST_GIVEN):
+            raise NoWish("given")
+        if not _are_different(said, SAID_LETTERS, MOST_SAID):
+            raise NoWish("said")
+        if not _are_pairs(pairs, given, said):
+            raise NoWish("pairs")
+        self._given = given
+        self._said = said
+        self._cells = [x + s for x in given for s in said]
+        self._allowed = {pair: True for pair in pairs}
+        # Kept in the order of the wish, so that equal wishes have equal lists.
+        self._pairs = [p + q for p in self._cells for q in self._cells if p + q in self._allowed]
+
+    def __eq__(self, other):
+        return (isinstance(other, Wish) and self._given == other._given
+                and self._said == other._said and self._pairs == other._pairs)
+
+    def given(self):
+        """The string of the given letters."""
+        return self._given
+
+    def said(self):
+        """The string of the said letters."""
+        return self._said
+
+    def cells(self):
+        """The list of all cells, in order."""
+        return list(self._cells)
+
+    def pairs(self):
+        """The list of the pairs, in order."""
+        return list(self._pairs)
+
+    def beside(self, cell, behind):
+        """Whether the cell `behind` may stand in the next house of one with the cell `cell`."""
+        return cell + behind in self._allowed

@@ -1,0 +1,72 @@
+"""[25]: names, arguments, and the file in which each name is defined."""
+
+import ast
+import inspect
+import unittest
+from importlib import import_module
+from pathlib import Path
+
+PACKAGE = Path(__file__).resolve().parent.parent / "nearwish"
+
+FUNCTIONS = {
+    "rings": {
+        "right": ["wish", "word", "answer"],
+        "wrong_places": ["wish", "word", "answer"],
+        "first_answer": ["wish", "word"],
+        "answers_many": ["wish", "word"],
+        "answer_at": ["wish", "word", "index"],
+        "answer_index": ["wish", "word", "answer"],
+        "answers_modulo": ["wish", "word", "times", "modulus"],
+    },
+}
+
+CLASSES = {
+    "wishes": {
+        "Wish": {"__init__": ["self", "given", "said", "pairs"], "given": ["self"], "said": ["self"],
+                 "cells": ["self"], "pairs": ["self"], "__eq__": ["self", "other"]},
+    },
+}
+
+FIELDS = {"NoWish": ["self", "part"], "TooMany": ["self", "most"]}
+
+ERRORS = ["NearError", "NoWord", "NoAnswer", "NoIndex", "NotRight", "NoNumber", "NoTable", "NoLetter", "NoShort",
+          "NoBound", "NotNear", "NoNames", "NoPlace", "NoHouse", "NoSaid", "NoLook", "IsNear", "NoGiven", "NoLetters",
+          "NoLevel", "NoText", "NoWish", "TooMany"]
+
+
+def defined(module, kind):
+    """What is defined (`def`, `class`) at the top of the file of this module."""
+    tree = ast.parse((PACKAGE / (module + ".py")).read_text(encoding="utf-8"))
+    return {node.name: node for node in tree.body if isinstance(node, kind)}
+
+
+class Interface(unittest.TestCase):
+
+    def test_functions(self):
+        for module, functions in FUNCTIONS.items():
+            there = defined(module, ast.FunctionDef)
+            for name, arguments in functions.items():
+                self.assertIn(name, there)
+                found = getattr(import_module("nearwish." + module), name)
+                self.assertEqual(list(inspect.signature(found).parameters), arguments, name)
+
+    def test_classes(self):
+        for module, classes in CLASSES.items():
+            there = defined(module, ast.ClassDef)
+            for name, methods in classes.items():
+                self.assertIn(name, there)
+                found = getattr(import_module("nearwish." + module), name)
+                for method, arguments in methods.items():
+                    self.assertIn(method, vars(found), (name, method))
+                    self.assertEqual(list(inspect.signature(vars(found)[method]).parameters), arguments)
+
+    def test_errors(self):
+        there = defined("errors", ast.ClassDef)
+        self.assertEqual(sorted(there), sorted(ERRORS))
+        for name, arguments in FIELDS.items():
+            found = getattr(import_module("nearwish.errors"), name)
+            self.assertEqual(list(inspect.signature(vars(found)["__init__"]).parameters), arguments)
+
+
+if __name__ == "__main__":
+    unittest.main()
