@@ -13,6 +13,12 @@ def are_letters(value, letters):
     return isinstance(value, str) and all([letter in letters for letter in value])
 
 
+def need_word(wish, word):
+    """Raises NoWord if it is not a word of the wish."""
+    if not are_letters(word, wish.given()):
+        raise NoWord()
+
+
 def need_ring(wish, word):
     """Raises NoWord if it is not a ring of the wish."""
     if not are_letters(word, wish.given()) or word == "":

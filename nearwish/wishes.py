@@ -45,12 +45,16 @@ class Wish:
             raise NoWish("said")
         if not _are_pairs(pairs, given, said):
             raise NoWish("pairs")
+        self._fill(given, said, pairs)
+
+    def _fill(self, given, said, pairs):
         self._given = given
         self._said = said
         self._cells = [x + s for x in given for s in said]
         self._allowed = {pair: True for pair in pairs}
         # Kept in the order of the wish, so that equal wishes have equal lists.
         self._pairs = [p + q for p in self._cells for q in self._cells if p + q in self._allowed]
+        self._kept = {}
 
     def __eq__(self, other):
         return (isinstance(other, Wish) and self._given == other._given
@@ -75,3 +79,18 @@ class Wish:
     def beside(self, cell, behind):
         """Whether the cell `behind` may stand in the next house of one with the cell `cell`."""
         return cell + behind in self._allowed
+
+    def kept(self, name):
+        """What was kept under this name, or None."""
+        return self._kept.get(name)
+
+    def keep(self, name, found):
+        """Keeps what was worked out of the wish: as it does not change, neither does this."""
+        self._kept[name] = found
+
+
+def wide_wish(given, said, pairs):
+    """The wish with these letters and pairs, however many there are: the caller answers for their form."""
+    wish = Wish("a", "A", [])
+    wish._fill(given, said, pairs)
+    return wish

@@ -4,7 +4,7 @@ from itertools import product
 from random import Random
 
 from nearwish.errors import NoWord
-from nearwish.wishes import Wish
+from nearwish.wishes import Wish, wide_wish
 
 
 def all_pairs(given, said):
@@ -23,6 +23,75 @@ def two():
 def whole():
     side = ["cXaX", "cXaY", "aXcX", "aYcX", "cXcX"]
     return Wish("ac", "XYZ", ["aXaY", "aYaX", "aZaZ"] + side)
+
+
+def one_letter():
+    return Wish("a", "X", ["aXaX"])
+
+
+def chance_wish(seed, given, said, share):
+    chance = Random(seed)
+    return Wish(given, said, [pair for pair in all_pairs(given, said) if chance.random() < share])
+
+
+def just_200_tables():
+    return chance_wish(125, "ab", "XYZ", 0.4)
+
+
+def over_200_tables():
+    """Wishes with more than 200 tables, the first one with 201."""
+    return [chance_wish(50, "ab", "XYZW", 0.4), chance_wish(85, "ab", "XYZW", 0.3), chance_wish(1, "abc", "WXYZ", 0.3)]
+
+
+def crowned(given):
+    """A wish with just one table, for words of each length, that has more than 100 greatest rectangles."""
+    said = "ABCDEFGHIJKLMN"
+    beside = [s + s for s in said] + [said[k] + said[7 + j] for k in range(7) for j in range(7) if k != j]
+    return wide_wish(given, said, [x + st[0] + y + st[1] for x in given for y in given for st in beside])
+
+
+def either(one, other):
+    """The wish whose houses all keep to the one wish, or all to the other one, which has other said letters."""
+    return wide_wish(one.given(), one.said() + other.said(), one.pairs() + other.pairs())
+
+
+def round_dances(given):
+    """A wish of the letters O to Z with 35 long tables: rounds of 5 and of 7 letters."""
+    after = dict(zip("OPQRSTUVWXYZ", "PQRSOUVWXYZT"))
+    pairs = [x + s + y + after[s] for x in given for y in given for s in after]
+    return wide_wish(given, "OPQRSTUVWXYZ", pairs)
+
+
+def many_longs():
+    """More than 20 long tables, and more than 24 short words."""
+    return chance_wish(7, "ab", "XY", 0.25)
+
+
+def many_shorts():
+    """No more than 20 long tables, and more than 24 short words."""
+    return chance_wish(7, "ab", "XY", 0.2)
+
+
+def just_20_longs():
+    return chance_wish(105, "ab", "XY", 0.35)
+
+
+def nearly_nameless(more):
+    """Three unlike letters, or W, which may stand beside itself: `more` is the list of the other pairs with W."""
+    unlike = [x + s + y + t for x in "ab" for y in "ab" for s in "XYZ" for t in "XYZ" if s != t]
+    return Wish("ab", "XYZW", unlike + ["aWaW", "bWbW"] + more)
+
+
+def hard_to_end():
+    """Three unlike letters, or V and W, whose runs go together, but not with the books."""
+    unlike = [x + s + y + t for x in "ab" for y in "ab" for s in "XYZ" for t in "XYZ" if s != t]
+    others = ["aVaV", "aVaW", "aVbW", "aWaW", "aWbV", "bVaV", "bVbV", "bVbW", "bWaW", "bWbV"]
+    return wide_wish("ab", "XYZVW", unlike + others)
+
+
+def turned(wish):
+    """The wish for the ring that is read the other way round."""
+    return wide_wish(wish.given(), wish.said(), [pair[2:] + pair[:2] for pair in wish.pairs()])
 
 
 def some_wishes():
@@ -66,3 +135,8 @@ def odd_values():
         nested(30, lambda value: [value]), nested(30, lambda value: (value,)), nested(30, lambda value: {"a": value}),
         two(), two().cells(), two().pairs(), tuple(two().pairs()), [two()], NoWord(),
     ]
+
+
+def as_told(wish):
+    """All that can be asked of a wish: to see that it stayed as it was."""
+    return wish.given(), wish.said(), wish.cells(), wish.pairs()

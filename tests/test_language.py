@@ -1,6 +1,7 @@
 """The form of the package's files: what of the language's rules can be seen in a short look."""
 
 import ast
+import builtins
 import re
 import unittest
 from pathlib import Path
@@ -72,6 +73,28 @@ class Language(unittest.TestCase):
                         self.assertEqual(names - LIBRARY[node.module], set(), path)
                     else:
                         self.assertTrue(node.module.startswith("nearwish."), path)
+
+    def test_names_of_classes_and_imports_mean_nothing_else(self):
+        for path in files():
+            tree = ast.parse(path.read_text(encoding="utf-8"))
+            taken = {alias.name for node in tree.body if isinstance(node, ast.ImportFrom) for alias in node.names}
+            taken |= {node.name for node in tree.body if isinstance(node, ast.ClassDef)} | set(dir(builtins))
+            for node in ast.walk(tree):
+                if isinstance(node, ast.arg):
+                    self.assertNotIn(node.arg, taken, (path, node.lineno))
+                if isinstance(node, ast.Name) and isinstance(node.ctx, ast.Store):
+                    self.assertNotIn(node.id, taken, (path, node.lineno))
+
+    def test_no_two_files_import_from_each_other(self):
+        above = {path.stem: {node.module.split(".")[1] for node in nodes(path) if isinstance(node, ast.ImportFrom)
+                             and node.module.startswith("nearwish.")} for path in files()}
+        done = set()
+        while above:
+            free = [name for name in above if above[name] <= done]
+            self.assertNotEqual(free, [])
+            for name in free:
+                done.add(name)
+                del above[name]
 
     def test_no_barred_syntax(self):
         for path in files():
