@@ -18,12 +18,55 @@ FUNCTIONS = {
         "answer_index": ["wish", "word", "answer"],
         "answers_modulo": ["wish", "word", "times", "modulus"],
     },
+    "tables": {
+        "table": ["wish", "word"],
+        "tables": ["wish"],
+        "behind": ["wish", "table", "word"],
+        "ahead": ["wish", "word", "table"],
+        "across": ["wish", "one", "letter", "other"],
+        "start": ["wish"],
+        "longs": ["wish"],
+        "word_with": ["wish", "table", "least"],
+    },
+    "lengths": {
+        "unanswered": ["wish", "least"],
+        "lengths": ["wish", "word"],
+        "rings_modulo": ["wish", "houses", "modulus"],
+    },
+    "books": {
+        "greatest": ["wish", "table"],
+        "near": ["wish"],
+        "book_fault": ["wish", "thing"],
+        "tree_fault": ["wish", "thing"],
+    },
+    "runs": {
+        "shorts": ["wish"],
+        "run_cells": ["wish", "word"],
+        "ending": ["wish", "word"],
+        "beginning": ["wish", "word"],
+        "nameless": ["wish"],
+        "nameless_book_fault": ["wish", "thing"],
+        "nameless_tree_fault": ["wish", "thing"],
+    },
+    "levels": {
+        "level": ["wish"],
+        "least_said": ["wish", "kind"],
+    },
+    "named": {
+        "halvings": ["number"],
+    },
 }
 
 CLASSES = {
     "wishes": {
         "Wish": {"__init__": ["self", "given", "said", "pairs"], "given": ["self"], "said": ["self"],
                  "cells": ["self"], "pairs": ["self"], "__eq__": ["self", "other"]},
+    },
+    "named": {
+        "NamedProgram": {"__init__": ["self", "wish", "bound"], "look": ["self"], "says": ["self", "word", "names"]},
+    },
+    "unnamed": {
+        "NamelessProgram": {"__init__": ["self", "wish"], "look": ["self"], "says": ["self", "word"]},
     },
 }
 
