@@ -1,6 +1,9 @@
 """Answers a ring by a book: first what some marked houses say, then what those between them say."""
 
+from nearwish.alltables import all_tables
+from nearwish.errors import NotNear
 from nearwish.grids import lowest, union
+from nearwish.search import solved_near
 
 
 class Filler:
@@ -17,22 +20,47 @@ class Filler:
         cells has a cell, too: as the run cells go together, so do those between them.
         """
         marks = sorted(anchors + list(cells))
+        turn = marks + [marks[0] + len(word)]
+        betweens = self._betweens(word, turn)
+        numbers = [self._known.follow(0, between) for between in betweens]
+        row = dict(cells)
+        for k, mark in enumerate(marks):
+            if mark not in cells:
+                ahead = cells.get(marks[k - 1])
+                behind = cells.get(marks[(k + 1) % len(marks)])
+                fits = self._rights(numbers[k - 1], ahead) & self._lefts(numbers[k], behind)
+                row[mark] = self._anchor(word[mark], fits)
+        row[turn[-1]] = row[marks[0]]
+        told = self._told(len(word), turn, betweens, row)
+        return "".join([told[house] for house in range(len(word))])
+
+    def settled(self, word, marks, cells):
+        """The dict from houses of the ring to what they say, if some marked houses say something already.
+
+        `marks` is the ascending list of places, which go on round the ring, at least m letters between each and the
+        next one; `cells` is the dict from those of them that say something to their cells. The marks between the
+        first and the last one say something now, and so do the houses between two marks that do.
+        """
+        size = len(word)
         betweens = self._betweens(word, marks)
         numbers = [self._known.follow(0, between) for between in betweens]
-        row = []
-        for k, mark in enumerate(marks):
-            ahead = cells.get(marks[k - 1])
-            behind = cells.get(marks[(k + 1) % len(marks)])
-            fits = self._rights(numbers[k - 1], ahead) & self._lefts(numbers[k], behind)
-            row.append(cells[mark] if mark in cells else self._anchor(word[mark], fits))
-        return self._filled(word, marks, betweens, row)
+        row = dict(cells)
+        for k in range(1, len(marks) - 1):
+            if marks[k] not in cells:
+                fits = self._rights(numbers[k - 1], None) & self._lefts(numbers[k], None)
+                row[marks[k]] = self._anchor(word[marks[k] % size], fits)
+        told = self._told(size, marks, betweens, row)
+        already = [mark % size for mark in cells]
+        return {house: letter for house, letter in told.items() if house not in already}
+
+    def cell(self, given, said):
+        """The index of the cell of these letters."""
+        return self._known.grid.places[given + said]
 
     def _betweens(self, word, marks):
         """The words between each mark and the next one."""
         size = len(word)
-        double = word + word
-        ends = marks[1:] + [marks[0] + size]
-        return [double[mark + 1:end] for mark, end in zip(marks, ends)]
+        return ["".join([word[k % size] for k in range(one + 1, other)]) for one, other in zip(marks, marks[1:])]
 
     def _rights(self, k, cell):
         """The cells for an anchor behind a word with the table k, ahead of which a run cell, or an anchor, stands."""
@@ -47,16 +75,15 @@ class Filler:
         grid = self._known.grid
         return lowest(fits & grid.of_letter[grid.letters.index(letter)])
 
-    def _filled(self, word, marks, betweens, row):
-        """The answer with these cells at the marks."""
-        size = len(word)
+    def _told(self, size, marks, betweens, row):
+        """What the marks with a cell in `row` say, and the houses between two of them that stand side by side."""
         names = self._known.grid.names
-        said = ["" for _ in word]
-        for k, mark in enumerate(marks):
-            cells = [row[k]] + self._path(row[k], betweens[k], row[(k + 1) % len(row)])
-            for far, cell in enumerate(cells):
-                said[(mark + far) % size] = names[cell][1]
-        return "".join(said)
+        told = {mark % size: names[cell][1] for mark, cell in row.items()}
+        for mark, after, between in zip(marks, marks[1:], betweens):
+            if mark in row and after in row:
+                for far, cell in enumerate(self._path(row[mark], between, row[after])):
+                    told[(mark + 1 + far) % size] = names[cell][1]
+        return told
 
     def _path(self, p, between, q):
         """The cells of the word between the cells p and q: each of them the first one with which one can go on."""
@@ -73,3 +100,11 @@ class Filler:
             now = lowest(grid.nexts[now] & goal)
             cells.append(now)
         return cells
+
+
+def near_filler(wish):
+    """What fills in rings by a book of the wish; NotNear if it has none."""
+    solved = solved_near(wish)
+    if solved.fixed is None:
+        raise NotNear()
+    return Filler(all_tables(wish), solved.rectangles())

@@ -3,7 +3,7 @@
 from nearwish.alltables import all_tables
 from nearwish.errors import NoLevel, TooMany
 from nearwish.search import solved_nameless, solved_near
-from nearwish.wishes import wide_wish
+from nearwish.wishes import with_letters
 
 # From the least near one on.
 LEVELS = ("none", "whole", "marks", "nameless")
@@ -36,7 +36,7 @@ def least_said(wish, kind):
         # With more letters, a level is as near or nearer: what contains one that was found is not least.
         if any([_contains(letters, less) for less in found]):
             continue
-        if LEVELS.index(level(_with_letters(wish, letters))) >= LEVELS.index(kind):
+        if LEVELS.index(level(with_letters(wish, letters))) >= LEVELS.index(kind):
             found.append(letters)
     return found
 
@@ -52,9 +52,3 @@ def _choices(said):
 
 def _contains(letters, less):
     return all([letter in letters for letter in less])
-
-
-def _with_letters(wish, letters):
-    """The wish with these said letters alone."""
-    pairs = [pair for pair in wish.pairs() if pair[1] in letters and pair[3] in letters]
-    return wide_wish(wish.given(), letters, pairs)

@@ -2,9 +2,8 @@
 
 from nearwish.alltables import all_tables
 from nearwish.checks import is_integer, need_number, need_ring
-from nearwish.errors import NoBound, NoNames, NotNear, NoWord
-from nearwish.filling import Filler
-from nearwish.search import solved_near
+from nearwish.errors import NoBound, NoNames
+from nearwish.filling import near_filler
 from nearwish.spacing import FEW_SHADES, NameShades, rounds, spaced
 
 MOST_NAMES = 10 ** 60
@@ -28,13 +27,10 @@ class NamedProgram:
         known = all_tables(wish)
         if not is_integer(bound) or bound < 1 or bound > MOST_NAMES:
             raise NoBound()
-        solved = solved_near(wish)
-        if solved.fixed is None:
-            raise NotNear()
         self._wish = wish
         self._bound = bound
         self._least = known.m + 1
-        self._filler = Filler(known, solved.rectangles())
+        self._filler = near_filler(wish)
 
     def look(self):
         """How far each house sees."""
@@ -44,9 +40,7 @@ class NamedProgram:
 
     def says(self, word, names):
         """A right answer to the ring whose house k has the name names[k]."""
-        need_ring(self._wish, word)
-        if len(word) < self._least:
-            raise NoWord()
+        need_ring(self._wish, word, self._least)
         if not self._are_names(names, len(word)):
             raise NoNames()
         shades = NameShades(list(names), self._bound)

@@ -80,4 +80,4 @@ class Run:
         self.ending, behind = ending_of(known, word)
         self.beginning, ahead = beginning_of(known, word)
         # So many letters of the word again and again make sure of both.
-        self.reach = max(behind, ahead) * len(word)
+        self.enough = max(behind, ahead) * len(word)

@@ -1,8 +1,7 @@
 """The tables of words, and those of a wish."""
 
 from nearwish.alltables import all_tables
-from nearwish.checks import need_number, need_word
-from nearwish.errors import NoLetter
+from nearwish.checks import need_letter, need_number, need_word
 from nearwish.grids import Grid
 
 
@@ -38,8 +37,7 @@ def across(wish, one, letter, other):
     """The table of a word with the table `one`, then the letter, then a word with the table `other`."""
     known = all_tables(wish)
     k = known.need(one)
-    if not isinstance(letter, str) or len(letter) != 1 or letter not in wish.given():
-        raise NoLetter()
+    need_letter(wish, letter)
     # Any word with the table `other` does, so its first one.
     return known.tuples[known.follow(k, letter + known.words[known.need(other)])]
 

@@ -29,7 +29,7 @@ class NamelessProgram:
         self._filler = Filler(known, solved.rectangles())
         self._run_cells = solved.run_cells()
         # So far from the ends of a stretch, its word comes often enough, and no other stretch reaches so far.
-        self._margin = max([run.reach for run in solved.puzzle.runs] + [0]) + 2 * known.m
+        self._margin = max([run.enough for run in solved.puzzle.runs] + [0]) + 2 * known.m
         self._stretch = 2 * self._margin + known.m
         # So far from each house outside of all stretches, there is an anchor.
         self._away = rounds(known.m + 1) * known.m

@@ -9,7 +9,7 @@ MOST_GIVEN = 3
 MOST_SAID = 4
 
 
-def _are_different(value, letters, most):
+def are_different(value, letters, most):
     """Whether it is a string of 1 to `most` different ones of these letters."""
     if not are_letters(value, letters):
         return False
@@ -23,7 +23,7 @@ def _is_pair(value, given, said):
     return are_letters(value[::2], given) and are_letters(value[1::2], said)
 
 
-def _are_pairs(value, given, said):
+def are_pairs(value, given, said):
     """Whether it is a list of strings of two cells, none of them twice."""
     if not isinstance(value, list):
         return False
@@ -39,11 +39,11 @@ class Wish:
     """A wish: its given letters, its said letters, its pairs. It does not change."""
 
     def __init__(self, given, said, pairs):
-        if not _are_different(given, GIVEN_LETTERS, MOST_GIVEN):
+        if not are_different(given, GIVEN_LETTERS, MOST_GIVEN):
             raise NoWish("given")
-        if not _are_different(said, SAID_LETTERS, MOST_SAID):
+        if not are_different(said, SAID_LETTERS, MOST_SAID):
             raise NoWish("said")
-        if not _are_pairs(pairs, given, said):
+        if not are_pairs(pairs, given, said):
             raise NoWish("pairs")
         self._fill(given, said, pairs)
 
@@ -94,3 +94,9 @@ def wide_wish(given, said, pairs):
     wish = Wish("a", "A", [])
     wish._fill(given, said, pairs)
     return wish
+
+
+def with_letters(wish, said):
+    """The wish with these said letters alone, which stand in its order."""
+    pairs = [pair for pair in wish.pairs() if pair[1] in said and pair[3] in said]
+    return wide_wish(wish.given(), said, pairs)

@@ -4,6 +4,7 @@ from itertools import product
 from random import Random
 
 from nearwish.errors import NoWord
+from nearwish.tables import start
 from nearwish.wishes import Wish, wide_wish
 
 
@@ -92,6 +93,29 @@ def hard_to_end():
 def turned(wish):
     """The wish for the ring that is read the other way round."""
     return wide_wish(wish.given(), wish.said(), [pair[2:] + pair[:2] for pair in wish.pairs()])
+
+
+def near_wishes():
+    """Wishes with a book, of the levels "marks" and "nameless"."""
+    return [three(), one_letter(), Wish("a", "XYZ", ["aXaY", "aYaZ", "aZaX", "aYaX"]), nearly_nameless([]),
+            Wish("a", "XYZW", ["aXaY", "aYaZ", "aZaX", "aZaW", "aWaX"]), chance_wish(134, "a", "XYZW", 0.25),
+            Wish("ba", "YX", all_pairs("ba", "YX")), chance_wish(59, "a", "XYZW", 0.5),
+            chance_wish(73, "ab", "XYZ", 0.55), chance_wish(75, "abc", "XYZ", 0.7), chance_wish(9, "ab", "XYZW", 0.4),
+            hard_to_end(), chance_wish(169, "abc", "XY", 0.7)]
+
+
+def k_of(wish):
+    """The K of the document."""
+    return start(wish)[0] + 1
+
+
+def ring(chance, given, houses):
+    """A word of letters by chance, in which some short words come again and again."""
+    word = ""
+    while len(word) < houses:
+        part = "".join(chance.choice(given) for _ in range(chance.randrange(1, 7)))
+        word += part * chance.choice([1, 1, 2, 5, 30])
+    return word[:houses]
 
 
 def some_wishes():

@@ -55,6 +55,11 @@ FUNCTIONS = {
     "named": {
         "halvings": ["number"],
     },
+    "strangers": {
+        "break_named": ["wish", "look", "tell"],
+        "break_nameless": ["wish", "look", "tell"],
+        "break_called": ["wish", "look", "tell"],
+    },
 }
 
 CLASSES = {
@@ -67,6 +72,15 @@ CLASSES = {
     },
     "unnamed": {
         "NamelessProgram": {"__init__": ["self", "wish"], "look": ["self"], "says": ["self", "word"]},
+    },
+    "called": {
+        "Called": {"__init__": ["self", "wish", "word"], "call": ["self", "place"], "said": ["self"],
+                   "given": ["self"], "reach": ["self"]},
+    },
+    "live": {
+        "LiveRing": {"__init__": ["self", "wish", "word"], "put": ["self", "place", "letter"],
+                     "change": ["self", "place", "letter"], "strike": ["self", "place"], "given": ["self"],
+                     "said": ["self"], "reach": ["self"]},
     },
 }
 

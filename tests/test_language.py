@@ -31,6 +31,10 @@ METHODS = {
 }
 
 
+# What a stranger hands in is called by this name.
+HANDED_IN = {"tell"}
+
+
 def files():
     return sorted(PACKAGE.rglob("*.py"))
 
@@ -115,7 +119,7 @@ class Language(unittest.TestCase):
                     self.assertIsInstance(node.value, ast.Constant, path)
 
     def test_calls(self):
-        own = package_names()
+        own = package_names() | HANDED_IN | {name for names in LIBRARY.values() for name in names}
         for path in files():
             for node in nodes(path):
                 if isinstance(node, ast.Call) and isinstance(node.func, ast.Name):

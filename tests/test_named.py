@@ -7,12 +7,11 @@ from nearwish.errors import NoBound, NoNames, NotNear, NoNumber, NoWord, TooMany
 from nearwish.named import NamedProgram, halvings
 from nearwish.rings import right
 from nearwish.runs import shorts
-from nearwish.tables import start
 from nearwish.wishes import Wish
 
-from kinds import (all_pairs, as_told, chance_wish, crowned, either, hard_to_end, just_200_tables, many_longs,
-                   many_shorts, nearly_nameless, odd_values, one_letter, over_200_tables, round_dances, three, two,
-                   whole)
+from kinds import (all_pairs, as_told, crowned, either, just_200_tables, k_of, many_longs, many_shorts,
+                   near_wishes, nearly_nameless, odd_values, one_letter, over_200_tables, ring, round_dances, three,
+                   two, whole)
 
 MOST = 10 ** 60
 
@@ -20,27 +19,6 @@ MOST = 10 ** 60
 def told_halvings(number):
     """By the words of [15]."""
     return 0 if number <= 6 else 1 + told_halvings(2 * len(bin(number - 1)[2:]))
-
-
-def with_books():
-    return [three(), one_letter(), Wish("a", "XYZ", ["aXaY", "aYaZ", "aZaX", "aYaX"]), nearly_nameless([]),
-            Wish("a", "XYZW", ["aXaY", "aYaZ", "aZaX", "aZaW", "aWaX"]), chance_wish(134, "a", "XYZW", 0.25),
-            Wish("ba", "YX", all_pairs("ba", "YX")), chance_wish(59, "a", "XYZW", 0.5),
-            chance_wish(73, "ab", "XYZ", 0.55), chance_wish(75, "abc", "XYZ", 0.7), chance_wish(9, "ab", "XYZW", 0.4),
-            hard_to_end(), chance_wish(169, "abc", "XY", 0.7)]
-
-
-def k_of(wish):
-    return start(wish)[0] + 1
-
-
-def ring(chance, given, houses):
-    """A word of letters by chance, in which some short words come again and again."""
-    word = ""
-    while len(word) < houses:
-        part = "".join(chance.choice(given) for _ in range(chance.randrange(1, 7)))
-        word += part * chance.choice([1, 1, 2, 5, 30])
-    return word[:houses]
 
 
 def name_lists(chance, many, bound):
@@ -120,7 +98,7 @@ class Constructor(unittest.TestCase):
 class Look(unittest.TestCase):
 
     def test_within_its_bound(self):
-        for wish in with_books():
+        for wish in near_wishes():
             for bound in [1, 2, 6, 7, 8, 9, 32, 33, 100, 10 ** 9, 2 ** 100, MOST]:
                 look = NamedProgram(wish, bound).look()
                 self.assertIs(type(look), int)
@@ -132,7 +110,7 @@ class Says(unittest.TestCase):
 
     def test_small_rings(self):
         chance = Random(1)
-        for wish in with_books():
+        for wish in near_wishes():
             least = k_of(wish)
             for houses in [least, least + 1, least + 2, 2 * least, 3 * least, 60, 61]:
                 for bound in [houses, houses + 1, 4 * houses, 10 ** 6, MOST]:
@@ -143,7 +121,7 @@ class Says(unittest.TestCase):
 
     def test_large_rings(self):
         chance = Random(2)
-        for wish in with_books():
+        for wish in near_wishes():
             for bound in [5000, 2 ** 20, MOST]:
                 program = NamedProgram(wish, bound)
                 lists = name_lists(chance, 5000, bound)
@@ -179,7 +157,7 @@ class Says(unittest.TestCase):
 
     def test_the_same_for_the_same_call(self):
         chance = Random(4)
-        for wish in with_books():
+        for wish in near_wishes():
             word = ring(chance, wish.given(), 100)
             names = chance.sample(range(10 ** 9), 100)
             program = NamedProgram(wish, MOST)
@@ -231,13 +209,13 @@ class Locally(unittest.TestCase):
 
     def test_houses_that_see_the_same(self):
         chance = Random(5)
-        for wish in with_books():
+        for wish in near_wishes():
             for bound in [10 ** 5, MOST]:
                 self.check(chance, wish, bound, 4)
 
     def test_a_house_in_a_ring_that_is_turned(self):
         chance = Random(6)
-        for wish in with_books():
+        for wish in near_wishes():
             program = NamedProgram(wish, 10 ** 9)
             word = ring(chance, wish.given(), 400)
             names = chance.sample(range(10 ** 9), 400)
