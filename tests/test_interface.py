@@ -60,6 +60,27 @@ FUNCTIONS = {
         "break_nameless": ["wish", "look", "tell"],
         "break_called": ["wish", "look", "tell"],
     },
+    "looks": {
+        "look_table": ["wish", "look"],
+        "look_fault": ["wish", "look", "thing"],
+    },
+    "rising": {
+        "rising": ["wish", "look"],
+        "rising_program": ["wish", "look", "bound"],
+        "rising_fault": ["wish", "look", "bound", "thing"],
+        "break_rising": ["wish", "look", "tell"],
+    },
+    "together": {
+        "both": ["one", "other"],
+        "one_of": ["one", "other"],
+        "turned": ["wish"],
+        "seen": ["wish", "given", "old"],
+        "struck": ["wish", "letters"],
+    },
+    "texts": {
+        "wish_text": ["wish"],
+        "read_wish": ["text"],
+    },
 }
 
 CLASSES = {
