@@ -21,8 +21,7 @@ class Stage:
 
 def stages(wish, look, most):
     """The levels from 0 to `look` of a wish with one given letter; TooMany if one has more than `most` things."""
-    if len(wish.said()) > most:
-        raise TooMany(most)
+    # The level 0 never has: there are no more letters.
     cells = wish.cells()
     goes = [sum([1 << k for k, behind in enumerate(cells) if wish.beside(cell, behind)]) for cell in cells]
     found = [Stage([], [], goes)]
@@ -41,8 +40,18 @@ def _next_stage(goes, most):
         if len(found) > most:
             raise TooMany(most)
     rights = list(found)
-    lefts = [sum([1 << k for k, row in enumerate(goes) if row & own == own]) for own in rights]
-    return Stage(lefts, rights, [sum([1 << k for k, left in enumerate(lefts) if left & own != 0]) for own in rights])
+    lefts = [_all_from(goes, own) for own in rights]
+    return Stage(lefts, rights, [_meeting(lefts, own) for own in rights])
+
+
+def _all_from(goes, some):
+    """The set of the things that go to each of these."""
+    return sum([1 << k for k, row in enumerate(goes) if row & some == some])
+
+
+def _meeting(sets, some):
+    """The set of the indexes of the sets in which one of these stands."""
+    return sum([1 << k for k, own in enumerate(sets) if own & some != 0])
 
 
 def looped(goes):
@@ -91,7 +100,8 @@ def _firsts(goes, some):
 def _stands_in(goes, some, one, other):
     """Whether from each row that begins with the thing `other` one can be made that begins with `one`, as long.
 
-    If `one` is none of the later things, it takes the place of `other`, otherwise it is put ahead of it.
+    If `one` is none of the later things, it takes the place of `other`, otherwise it is put ahead of it. So it has
+    to go to all to which `other` goes, and to `other`, too, if that goes to `one`.
     """
     if goes[other] & some & ~goes[one] & ~(1 << one) != 0:
         return False

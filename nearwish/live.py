@@ -43,10 +43,6 @@ class LiveRing:
         need_place(place, len(self._given))
         need_letter(self._wish, letter)
         self._given[place] = letter
-        if place in self._anchors:
-            # The words between anchors are what they were.
-            k = self._anchors.index(place)
-            return self._settled(k - 1, k + 1)
         return self._mended(place)
 
     def strike(self, place):
@@ -74,7 +70,7 @@ class LiveRing:
         return 7 * self._space
 
     def _mended(self, place):
-        """Sets right what the word between two anchors about the place makes wrong, as `_settled`."""
+        """Sets right what a deed at the place makes wrong, between the two anchors about it; as `_settled`."""
         size = len(self._given)
         k = self._behind(place)
         if self._at(k) - self._at(k - 1) < self._space:

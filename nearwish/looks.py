@@ -68,13 +68,13 @@ def _fixed(grid, links, fits):
     left = _narrowed(grid, links, fits)
     if 0 in left:
         return None
-    several = [k for k in range(len(left)) if left[k] != 1 << lowest(left[k])]
+    several = [word for word, some in enumerate(left) if some != 1 << lowest(some)]
     if several == []:
         return [lowest(some) for some in left]
     # The fewest cells first: so most branches end at once.
-    k = min(several, key=lambda word: len(bits(left[word])))
-    for cell in bits(left[k]):
-        found = _fixed(grid, links, [1 << cell if j == k else some for j, some in enumerate(left)])
+    first = min(several, key=lambda word: len(bits(left[word])))
+    for cell in bits(left[first]):
+        found = _fixed(grid, links, left[:first] + [1 << cell] + left[first + 1:])
         if found is not None:
             return found
     return None

@@ -48,42 +48,39 @@ def _barred(solved):
     return solved
 
 
-class NamedStranger:
+class Stranger:
+    """A stranger's program, which has to give said letters of the wish."""
+
+    def __init__(self, wish, tell):
+        self._wish = wish
+        self.tell = tell
+
+    def checked(self, said):
+        """What the program gave; NoSaid if it is no said letter."""
+        need_said(self._wish, said)
+        return said
+
+
+class NamedStranger(Stranger):
     """A stranger's program for houses with names."""
 
-    def __init__(self, wish, tell):
-        self._wish = wish
-        self._tell = tell
-
     def says(self, houses):
         """What the house in the middle of these says."""
-        tell = self._tell
-        said = tell(_word(houses), [name for _, name in houses])
-        need_said(self._wish, said)
-        return said
+        tell = self.tell
+        return self.checked(tell(_word(houses), [name for _, name in houses]))
 
 
-class NamelessStranger:
+class NamelessStranger(Stranger):
     """A stranger's program for houses without names."""
 
-    def __init__(self, wish, tell):
-        self._wish = wish
-        self._tell = tell
-
     def says(self, houses):
         """What the house in the middle of these says."""
-        tell = self._tell
-        said = tell(_word(houses))
-        need_said(self._wish, said)
-        return said
+        tell = self.tell
+        return self.checked(tell(_word(houses)))
 
 
-class CalledStranger:
+class CalledStranger(Stranger):
     """A stranger's program for houses that are called."""
-
-    def __init__(self, wish, tell):
-        self._wish = wish
-        self._tell = tell
 
     def says(self, houses):
         """What the house in the middle of these says if none of them has said anything."""
@@ -91,10 +88,8 @@ class CalledStranger:
 
     def says_then(self, letters, before):
         """What the house in the middle of these letters says after what was said before."""
-        tell = self._tell
-        said = tell(letters, before)
-        need_said(self._wish, said)
-        return said
+        tell = self.tell
+        return self.checked(tell(letters, before))
 
 
 def _word(houses):

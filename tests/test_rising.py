@@ -2,7 +2,7 @@
 
 import unittest
 from functools import lru_cache
-from itertools import combinations, product
+from itertools import combinations, permutations, product
 from random import Random
 
 from nearwish.errors import IsNear, NoGiven, NoLook, NoNumber, NoSaid, TooMany
@@ -184,6 +184,24 @@ class Rising(unittest.TestCase):
                 levels = Levels(wish, look, 30)
                 if not levels.too_many:
                     self.assertEqual(rising(wish, look), levels.longest(look))
+
+    def test_all_wishes_of_four_letters(self):
+        arcs = [(k, j) for k in range(4) for j in range(4) if k != j]
+        for mask in range(1 << 12):
+            goes = {arc for bit, arc in enumerate(arcs) if mask >> bit & 1}
+            most = max(many for many in range(1, 5) for row in permutations(range(4), many)
+                       if all(arc in goes for arc in combinations(row, 2)))
+            wish = wish_of("ABCD", lambda k, j: (k, j) in goes)
+            self.assertEqual(rising(wish, 0), most)
+            self.assertEqual(rising_program(wish, 0, most + 1), None)
+
+    def test_many_wishes_of_six_letters(self):
+        chance = Random(6)
+        for _ in range(2000):
+            share = chance.random()
+            goes = {arc for arc in product(range(6), repeat=2) if arc[0] != arc[1] and chance.random() < share}
+            wish = wish_of("FEDCBA", lambda k, j: (k, j) in goes)
+            self.assertEqual(rising(wish, 0), Levels(wish, 0, 30).longest(0))
 
     def test_rows_of_many_letters(self):
         chance = Random(3)

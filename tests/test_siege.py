@@ -8,7 +8,7 @@ from nearwish.errors import TooMany
 from nearwish.levels import level
 from nearwish.rings import right
 from nearwish.runs import nameless_tree_fault
-from nearwish.search import near_puzzle, nameless_puzzle
+from nearwish.search import near_puzzle, nameless_puzzle, solved_near
 from nearwish.siege import Siege
 from nearwish.wishes import Wish
 
@@ -82,6 +82,38 @@ class Steady(Picks):
         return self.runs.get(letters_of(houses)) or super().says(houses)
 
 
+class Wily:
+    """A program that looks into the search, and gives what tears no post as long as it can; the same for the same."""
+
+    def __init__(self, look, said, seed):
+        self.look = look
+        self.said = said
+        self.chance = Random(seed)
+        self.given = {}
+        self.siege = None
+
+    def says(self, houses):
+        key = tuple(houses)
+        if key not in self.given:
+            letters = self.chance.sample(self.said, len(self.said))
+            tame = [letter for letter in letters if not self.tears(houses, letter)]
+            self.given[key] = (tame + letters)[0]
+        return self.given[key]
+
+    def tears(self, houses, letter):
+        known = self.siege._known
+        cell = known.grid.places[houses[self.look][0] + letter]
+        for post in [post for posts in self.siege._posts for post in posts]:
+            k = known.longs[post.thing]
+            if houses[:self.look] == post.houses[len(post.houses) - self.look:]:
+                if any(not known.has(k, p, cell) for p in post.heads):
+                    return True
+            if houses[self.look + 1:] == post.houses[:self.look]:
+                if any(not known.has(k, cell, q) for q in post.tails):
+                    return True
+        return False
+
+
 def letters_of(houses):
     return "".join(letter for letter, _ in houses)
 
@@ -89,7 +121,9 @@ def letters_of(houses):
 class Sieges(unittest.TestCase):
 
     def check(self, wish, solved, stranger, copies):
-        houses = Siege(solved, stranger.look, stranger, copies).ring()
+        siege = Siege(solved, stranger.look, stranger, copies)
+        stranger.siege = siege
+        houses = siege.ring()
         size = len(houses)
         look = stranger.look
         self.assertGreaterEqual(size, 2 * look + 1)
@@ -141,6 +175,24 @@ class Sieges(unittest.TestCase):
                     self.check(wish, solved, Picks(look, kept, seed, True), 2)
                     self.check(wish, solved, Picks(look, kept, seed, False), 2)
                     self.check(wish, solved, Picks(look, kept, seed, False), 1)
+
+
+    def test_a_wily_program(self):
+        chance = Random(4)
+        broken = 0
+        for _ in range(1500):
+            wish = chance_wish(chance.randrange(10 ** 6), chance.choice(["a", "ab", "ab", "abc"]),
+                               chance.choice(["XY", "XYZ", "XYZW"]), chance.choice([0.2, 0.3, 0.4, 0.5, 0.6]))
+            try:
+                solved = solved_near(wish)
+            except TooMany:
+                continue
+            if solved.fixed is None:
+                for look in (1, 2, 3, 6):
+                    stranger = Wily(look, wish.said(), look)
+                    self.check(wish, self.drawn(near_puzzle(wish), chance) or solved, stranger, 2)
+                    broken += 1
+        self.assertGreater(broken, 1500)
 
 
 def kinds_of(tree):
