@@ -32,7 +32,7 @@ class Called:
         if self._said[place] != ".":
             return {}
         marks = self._marks(place)
-        told = self._filler.settled(self._given, marks, self._cells(marks))
+        told = self._filler.settled(self._given, marks, self._cells_of(marks))
         for house, letter in told.items():
             self._said[house] = letter
         return told
@@ -81,7 +81,7 @@ class Called:
                 return place + step * far
         return None
 
-    def _cells(self, marks):
+    def _cells_of(self, marks):
         """The dict from those of the marks that have said a letter to their cells."""
         size = len(self._given)
         letters = {mark: (self._given[mark % size], self._said[mark % size]) for mark in marks}

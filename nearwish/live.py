@@ -73,11 +73,11 @@ class LiveRing:
         """Sets right what a deed at the place makes wrong, between the two anchors about it; as `_settled`."""
         size = len(self._given)
         k = self._behind(place)
-        if self._at(k) - self._at(k - 1) < self._space:
-            self._anchors.remove(self._at(k) % size)
+        if self._place_of(k) - self._place_of(k - 1) < self._space:
+            self._anchors.remove(self._place_of(k) % size)
             k = self._behind(place)
-        first = self._at(k - 1)
-        far = self._at(k) - first
+        first = self._place_of(k - 1)
+        far = self._place_of(k) - first
         if far <= APART * self._space:
             return self._settled(k - 2, k + 1)
         self._anchors = sorted(self._anchors + [(first + far // 2) % size])
@@ -88,7 +88,7 @@ class LiveRing:
         """The index of the first anchor from the place on; their number, if it is the first one of all."""
         return len([anchor for anchor in self._anchors if anchor < place])
 
-    def _at(self, k):
+    def _place_of(self, k):
         """The place of the anchor with the index k; the indexes and the places go on round the ring."""
         many = len(self._anchors)
         return self._anchors[k % many] + k // many * len(self._given)
@@ -99,7 +99,7 @@ class LiveRing:
         Returns the dict from the houses that say something else now to what they say.
         """
         size = len(self._given)
-        marks = [self._at(k) for k in range(first, last + 1)]
+        marks = [self._place_of(k) for k in range(first, last + 1)]
         ends = [marks[0], marks[-1]]
         cells = {mark: self._filler.cell(self._given[mark % size], self._said[mark % size]) for mark in ends}
         told = self._filler.settled(self._given, marks, cells)
